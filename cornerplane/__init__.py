@@ -1,0 +1,1 @@
+"""Cornerplane: exact straight lines, shapes, maps and sight on a grid of whole corners."""

@@ -1,0 +1,1 @@
+"""The tests of cornerplane. They may use all of Python."""
