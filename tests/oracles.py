@@ -1,5 +1,6 @@
 """Slow, plain versions of what the document defines, to compare the program with."""
 
+from functools import lru_cache
 from itertools import product
 
 
@@ -35,6 +36,7 @@ def certificates(path, other):
     return found
 
 
+@lru_cache(maxsize=None)
 def in_conflict(path, other):
     return len(certificates(path, other)) > 0
 
@@ -81,8 +83,80 @@ def broken_pair(board, half, letters):
     return None
 
 
-def consistent_tables(board, half):
-    """All consistent tables of a small board, ascending, found by trying every string."""
+@lru_cache(maxsize=None)
+def _consistent_tables(board, half):
     length = len(pairs_of_half(board, half))
     strings = ["".join(letters) for letters in product(letters_of_half(half), repeat=length)]
-    return [letters for letters in strings if broken_pair(board, half, letters) is None]
+    return tuple(letters for letters in strings if broken_pair(board, half, letters) is None)
+
+
+def consistent_tables(board, half):
+    """All consistent tables of a small board, ascending, found by trying every string."""
+    return list(_consistent_tables(board, half))
+
+
+def conflict_free_families(board, half):
+    """The tables of all families of one path for each pair of which no two conflict, ascending."""
+    pairs = pairs_of_half(board, half)
+    between = {pair: [] for pair in pairs}
+    for path in paths_of(board):
+        if (path[0], path[-1]) in between:
+            between[(path[0], path[-1])].append(path)
+    families = [()]
+    for pair in sorted(pairs, key=steps_of):
+        families = [
+            family + (path,)
+            for family in families for path in between[pair]
+            if not any(in_conflict(path, other) for other in family)
+        ]
+    tables = []
+    for family in families:
+        lines = {(path[0], path[-1]): path for path in family}
+        letters = letters_of_half(half)
+        tables.append("".join([letters[lines[p, q][1][0] == p[0]] for p, q in pairs]))
+    return sorted(tables)
+
+
+def filled(board, strokes, choices=(), prefer=None):
+    """Point 26 word by word: the lines by pair, and the free pairs with the numbers taken."""
+    lines, free, numbers = {}, [], list(choices)
+
+    def line(p, q):
+        return straight(p, q) if p[0] == q[0] or p[1] == q[1] else lines[p, q]
+
+    for half in ("rising", "falling"):
+        pairs = sorted(pairs_of_half(board, half), key=lambda pair: (steps_of(pair), pair))
+        for p, q in pairs:
+            through = [stroke for stroke in strokes if p in stroke and q in stroke]
+            if through:
+                stroke = through[0]
+                lines[p, q] = stroke[stroke.index(p):stroke.index(q) + 1]
+                continue
+            east = (p,) + line((p[0] + 1, p[1]), q)
+            other = (p,) + line((p[0], p[1] + (1 if half == "rising" else -1)), q)
+            admissible = [c for c in (east, other) if c[:-1] == line(p, c[-2])]
+            assert admissible
+            chosen = admissible[0]
+            if len(admissible) == 2:
+                if numbers:
+                    number = numbers.pop(0)
+                elif prefer is None:
+                    number = 0
+                else:
+                    number = (east, other).index(
+                        [c for c in (east, other) if c[1] == prefer.line(p, q)[1]][0]
+                    )
+                free.append(((p, q), number))
+                chosen = admissible[number]
+            lines[p, q] = chosen
+    return lines, free
+
+
+def tables_of(board, lines):
+    """The two tables of the lines."""
+    return tuple(
+        "".join([
+            letters_of_half(half)[lines[p, q][1][0] == p[0]] for p, q in pairs_of_half(board, half)
+        ])
+        for half in ("rising", "falling")
+    )

@@ -1,0 +1,42 @@
+"""Planes and strokes to try the program with. The same ones come in every run."""
+
+import random
+
+from cornerplane.filling import fill
+from cornerplane.strokes import keep_in_order
+from tests.oracles import paths_of
+
+
+def some_plane(board, seed):
+    """A plane of the board whose free pairs are decided by chance."""
+    chance = random.Random(seed)
+    return fill(board, [], choices=[chance.randrange(2) for _ in range(2600)])
+
+
+def some_strokes(board, seed, count):
+    """Compatible strokes of the board, at most `count`."""
+    chance = random.Random(seed)
+    strokes = chance.choices(paths_of(board), k=count)
+    kept, _ = keep_in_order(strokes)
+    return [strokes[index] for index in kept]
+
+
+def long_stroke(board, chance):
+    """A rising or falling path from side to side of the board."""
+    width, height = board
+    rising = chance.random() < 0.5
+    letters = ["E"] * width + ["N" if rising else "S"] * height
+    chance.shuffle(letters)
+    row = [(0, 0 if rising else height)]
+    for letter in letters:
+        x, y = row[-1]
+        row.append({"E": (x + 1, y), "N": (x, y + 1), "S": (x, y - 1)}[letter])
+    return tuple(row)
+
+
+def many_long_strokes(board, seed, count):
+    """Compatible strokes among `count` long ones."""
+    chance = random.Random(seed)
+    strokes = [long_stroke(board, chance) for _ in range(count)]
+    kept, _ = keep_in_order(strokes)
+    return [strokes[index] for index in kept]
