@@ -160,3 +160,74 @@ def tables_of(board, lines):
         ])
         for half in ("rising", "falling")
     )
+
+
+def letters_of(path):
+    """The directions of the steps of a path in normal form."""
+    names = {(1, 0): "E", (0, 1): "N", (0, -1): "S"}
+    return "".join([names[b[0] - a[0], b[1] - a[1]] for a, b in zip(path, path[1:])])
+
+
+@lru_cache(maxsize=None)
+def _paths_by_ends(board):
+    found = {}
+    for path in paths_of(board):
+        found.setdefault((path[0], path[-1]), []).append(path)
+    return found
+
+
+def paths_with_ends(board, p, q):
+    """All paths of the board between two corners, sorted by letters."""
+    return sorted(_paths_by_ends(board)[min(p, q), max(p, q)], key=letters_of)
+
+
+def kind_of(path):
+    letters = letters_of(path)
+    if "E" in letters and "N" in letters:
+        return "rising"
+    if "E" in letters and "S" in letters:
+        return "falling"
+    return "straight" if letters else "point"
+
+
+def slot_number(board, half, corner):
+    """The slot of a step east or steep from the corner."""
+    return corner[0] + (corner[1] if half == "rising" else board[1] - corner[1])
+
+
+def said_by(board, half, path):
+    """All (s, t) such that the path's step in slot s is steep and that in slot t is flat."""
+    if kind_of(path) != half:
+        return set()
+    steps = {
+        slot_number(board, half, corner): letter
+        for corner, letter in zip(path, letters_of(path))
+    }
+    return {(s, t) for s in steps for t in steps if steps[s] != "E" and steps[t] == "E"}
+
+
+def rings_of(board, half, paths):
+    """All tuples (i, j, s, t) that are a ring."""
+    said = [said_by(board, half, path) for path in paths]
+    return {
+        (i, j, s, t)
+        for i, one in enumerate(said) for j, other in enumerate(said)
+        for s, t in one if (t, s) in other
+    }
+
+
+def ranked_path(board, half, ranking, p, q):
+    """The path from p to q whose steep steps lie in the slots with the highest ranks."""
+    first, steps = slot_number(board, half, p), steps_of((p, q))
+    slots = list(range(first, first + steps))
+    steep = sorted(slots, key=lambda slot: -ranking[slot])[:abs(p[1] - q[1])]
+    row = [p]
+    for slot in slots:
+        x, y = row[-1]
+        row.append((x, y + (1 if half == "rising" else -1)) if slot in steep else (x + 1, y))
+    return tuple(row)
+
+
+def fits_ranking(board, half, ranking, path):
+    """True if the path, where it is one of the half, is a line of the ranking's plane."""
+    return kind_of(path) != half or path == ranked_path(board, half, ranking, path[0], path[-1])

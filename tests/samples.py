@@ -40,3 +40,19 @@ def many_long_strokes(board, seed, count):
     strokes = [long_stroke(board, chance) for _ in range(count)]
     kept, _ = keep_in_order(strokes)
     return [strokes[index] for index in kept]
+
+
+def some_rankings(board, seed):
+    """Two rankings of the board by chance."""
+    chance = random.Random(seed)
+    slots = list(range(board[0] + board[1]))
+    return chance.sample(slots, len(slots)), chance.sample(slots, len(slots))
+
+
+def lines_of(plane, seed, count):
+    """Lines of the plane by chance, as paths."""
+    chance = random.Random(seed)
+    width, height = plane.board
+    corners = [(x, y) for x in range(width + 1) for y in range(height + 1)]
+    pairs = [sorted(chance.choices(corners, k=2)) for _ in range(count)]
+    return [tuple(plane.line(p, q)) for p, q in pairs]
