@@ -231,3 +231,61 @@ def ranked_path(board, half, ranking, p, q):
 def fits_ranking(board, half, ranking, path):
     """True if the path, where it is one of the half, is a line of the ranking's plane."""
     return kind_of(path) != half or path == ranked_path(board, half, ranking, path[0], path[-1])
+
+
+def board_cells(board):
+    return sorted(product(range(board[0]), range(board[1])))
+
+
+def walk_steps(plane, chain):
+    """The directed unit steps along the sides of a chain."""
+    steps = []
+    for at, corner in enumerate(chain):
+        line = plane.line(corner, chain[(at + 1) % len(chain)])
+        steps += [(line[k], line[k + 1]) for k in range(len(line) - 1)]
+    return steps
+
+
+def winding_number(steps, cell):
+    """Point 47 word by word: the steps north less the steps south, east of the cell."""
+    x, y = cell
+    east = [(a, b) for a, b in steps if a[0] == b[0] and a[0] > x]
+    north = [step for step in east if step[0][1] == y and step[1][1] == y + 1]
+    south = [step for step in east if step[0][1] == y + 1 and step[1][1] == y]
+    return len(north) - len(south)
+
+
+def winding_entries(board, steps):
+    """The tuples (cell, number) of the winding numbers that are not 0, ascending."""
+    numbers = [(cell, winding_number(steps, cell)) for cell in board_cells(board)]
+    return [entry for entry in numbers if entry[1] != 0]
+
+
+def side_groups(cells):
+    """The groups of cells that are connected by sides, as sorted lists in ascending order."""
+    groups = [{cell} for cell in cells]
+    for one, other in product(cells, cells):
+        if abs(one[0] - other[0]) + abs(one[1] - other[1]) == 1:
+            first = [group for group in groups if one in group][0]
+            second = [group for group in groups if other in group][0]
+            if first is not second:
+                first |= second
+                groups.remove(second)
+    return sorted(sorted(group) for group in groups)
+
+
+def border_steps(cells):
+    """The directed steps with a cell of the set on the left and none on the right."""
+    found = set()
+    for x, y in cells:
+        corners = [(x, y), (x + 1, y), (x + 1, y + 1), (x, y + 1)]
+        beyond = [(x, y - 1), (x + 1, y), (x, y + 1), (x - 1, y)]
+        for at in range(4):
+            if beyond[at] not in cells:
+                found.add((corners[at], corners[(at + 1) % 4]))
+    return found
+
+
+def closed_steps(loop):
+    """The steps of a loop, that from the last corner to the first one included."""
+    return [(corner, loop[(at + 1) % len(loop)]) for at, corner in enumerate(loop)]

@@ -56,3 +56,18 @@ def lines_of(plane, seed, count):
     corners = [(x, y) for x in range(width + 1) for y in range(height + 1)]
     pairs = [sorted(chance.choices(corners, k=2)) for _ in range(count)]
     return [tuple(plane.line(p, q)) for p, q in pairs]
+
+
+def some_chain(board, seed, count):
+    """A chain of the board by chance, in which corners may come again."""
+    chance = random.Random(seed)
+    return [
+        (chance.randrange(board[0] + 1), chance.randrange(board[1] + 1)) for _ in range(count)
+    ]
+
+
+def some_cells(board, seed, share=0.5):
+    """Cells of the board by chance."""
+    chance = random.Random(seed)
+    cells = [(x, y) for x in range(board[0]) for y in range(board[1])]
+    return [cell for cell in cells if chance.random() < share]

@@ -54,6 +54,22 @@ FUNCTIONS = {
         "is_ring": "(board, half, paths, certificate)", "rankings_for": "(board, paths)",
         "sure_order": "(board, half, paths)", "order_chain": "(board, half, paths, s, t)",
     },
+    "windings": {
+        "closed_walk": "(plane, chain)", "windings": "(plane, chain)",
+        "signed_area": "(plane, chain)", "net_steps": "(plane, chains)",
+        "total_windings": "(plane, chains)", "windings_of_steps": "(steps)",
+    },
+    "triangles": {"fan": "(hub, chain)"},
+    "meshes": {
+        "insert_corner": "(plane, chain, index, corner)",
+        "same_rim": "(plane, chains, others)", "mesh_fault": "(plane, faces, outline)",
+    },
+    "regions": {"paint": "(plane, chains)", "pieces": "(region)"},
+    "outlines": {"outline": "(region)", "region_of_loops": "(loops)"},
+    "chains": {
+        "least_marks": "(plane, loop)", "is_least_marks": "(plane, loop, marks)",
+        "least_chain": "(plane, loop)", "trace": "(plane, region)",
+    },
 }
 
 CLASSES = {
@@ -68,6 +84,18 @@ CLASSES = {
         "Plane": {
             "__init__": "(self, board, rising, falling)", "line": "(self, p, q)",
             "step_from": "(self, p, q)", "has_path": "(self, path)",
+        },
+    },
+    "triangles": {
+        "Triangle": {
+            "__init__": "(self, plane, p, q, r)", "__contains__": "(self, corner)",
+        },
+    },
+    "regions": {
+        "Region": {
+            "__init__": "(self, cells)", "__iter__": "(self)", "__len__": "(self)",
+            "__contains__": "(self, cell)", "__or__": "(self, other)",
+            "__and__": "(self, other)", "__sub__": "(self, other)", "__xor__": "(self, other)",
         },
     },
 }
