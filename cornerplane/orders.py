@@ -85,13 +85,18 @@ def _shortest_chains(pairs, s):
 def _chains_along(pairs, s):
     """The shortest chains of pairs from slot s to the others, by their end."""
     chains = {}
-    ends = [[s]]
+    ends = {s: [s]}
     while len(ends) > 0:
-        longer = []
-        for chain in ends:
-            for a, b in pairs:
-                if a == chain[-1] and b not in chains:
-                    chains[b] = [*chain, b]
-                    longer.append(chains[b])
-        ends = longer
+        ends = _longer_chains(pairs, ends, chains)
+        chains = {**chains, **ends}
     return chains
+
+
+def _longer_chains(pairs, ends, known):
+    """The chains one slot longer than those in `ends` that lead to slots not known, by their end."""
+    longer = {}
+    for slot in ends:
+        for a, b in pairs:
+            if a == slot and b not in known and b not in longer:
+                longer[b] = [*ends[slot], b]
+    return longer
