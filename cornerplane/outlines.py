@@ -2,8 +2,8 @@
 
 from cornerplane.errors import OpenLoop
 from cornerplane.grid import direction
-from cornerplane.regions import Region
-from cornerplane.windings import cells_west_of, sides_of
+from cornerplane.regions import region_of_steps
+from cornerplane.windings import sides_of
 
 
 def outline(region):
@@ -60,12 +60,7 @@ def region_of_loops(loops):
     for index, loop in enumerate(loops):
         if not _is_loop(loop):
             raise OpenLoop(index)
-    odd = {}
-    for loop in loops:
-        for a, b in sides_of(loop):
-            for cell in cells_west_of(a, b):
-                odd[cell] = not odd.get(cell, False)
-    return Region([cell for cell in odd if odd[cell]])
+    return region_of_steps([step for loop in loops for step in sides_of(loop)])
 
 
 def _is_loop(corners):

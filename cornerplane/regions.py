@@ -1,6 +1,7 @@
 """Regions: sets of cells, painted with chains, and their connected pieces."""
 
-from cornerplane.windings import total_windings
+from cornerplane.groups import SIDE_MOVES, connected_groups
+from cornerplane.windings import cells_west_of, total_windings
 
 
 class Region:
@@ -40,25 +41,13 @@ def paint(plane, chains):
 
 def pieces(region):
     """The connected pieces of the region, in ascending order of their least cells."""
-    found = []
-    seen = set()
-    for cell in region:
-        if cell not in seen:
-            piece = _piece_around(region, cell)
-            for other in piece:
-                seen.add(other)
-            found.append(piece)
-    return found
+    return [Region(group) for group in connected_groups(region.cells, SIDE_MOVES)]
 
 
-def _piece_around(region, start):
-    """The piece of the region that has the cell `start`."""
-    reached = {start: True}
-    waiting = [start]
-    while len(waiting) > 0:
-        x, y = waiting.pop()
-        for cell in ((x - 1, y), (x, y - 1), (x, y + 1), (x + 1, y)):
-            if cell in region and cell not in reached:
-                reached[cell] = True
-                waiting.append(cell)
-    return Region(list(reached))
+def region_of_steps(steps):
+    """The region of the cells that have an odd number of the steps (a, b) to the east of them."""
+    odd = {}
+    for a, b in steps:
+        for cell in cells_west_of(a, b):
+            odd[cell] = not odd.get(cell, False)
+    return Region([cell for cell in odd if odd[cell]])

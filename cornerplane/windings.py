@@ -33,7 +33,7 @@ def net_steps(plane, chains):
     """The tuples ((a, b), number) of the steps from a to b less those back, ascending."""
     numbers = {}
     for chain in chains:
-        for a, b in _unit_steps(plane, chain):
+        for a, b in unit_steps(plane, sides_of(chain)):
             if a < b:
                 numbers[(a, b)] = numbers.get((a, b), 0) + 1
             else:
@@ -41,10 +41,10 @@ def net_steps(plane, chains):
     return _entries(numbers)
 
 
-def _unit_steps(plane, chain):
-    """The steps (a, b) of the closed walk of the chain, in order."""
+def unit_steps(plane, sides):
+    """The steps (a, b) along the lines of the sides, in order."""
     steps = []
-    for a, b in sides_of(chain):
+    for a, b in sides:
         line = plane.line(a, b)
         steps.extend(list(zip(line, line[1:])))
     return steps

@@ -289,3 +289,32 @@ def border_steps(cells):
 def closed_steps(loop):
     """The steps of a loop, that from the last corner to the first one included."""
     return [(corner, loop[(at + 1) % len(loop)]) for at, corner in enumerate(loop)]
+
+
+def closed_over(plane, corners):
+    """The least closed set with the corners, found by adding whole lines until nothing changes."""
+    found = set(corners)
+    while True:
+        more = found | {c for a in found for b in found for c in plane.line(a, b)}
+        if more == found:
+            return sorted(found)
+        found = more
+
+
+def derives(plane, corners, entries):
+    """Point 70 word by word: True if the entries are a derivation from the corners."""
+    for at, (c, a, b) in enumerate(entries):
+        earlier = list(corners) + [entry[0] for entry in entries[:at]]
+        if a not in earlier or b not in earlier or c not in plane.line(a, b):
+            return False
+    return True
+
+
+def least_apart(sets):
+    """The least indexes i <= j <= k of three sets that share nothing, or None."""
+    count = range(len(sets))
+    triples = [(i, j, k) for i in count for j in count for k in count if i <= j <= k]
+    for i, j, k in sorted(triples):
+        if not set(sets[i]) & set(sets[j]) & set(sets[k]):
+            return (i, j, k)
+    return None

@@ -3,6 +3,8 @@
 import random
 
 from cornerplane.filling import fill
+from cornerplane.landmaps import LandMap
+from cornerplane.rankings import ranked_plane, ruler_ranking
 from cornerplane.strokes import keep_in_order
 from tests.oracles import paths_of
 
@@ -71,3 +73,39 @@ def some_cells(board, seed, share=0.5):
     chance = random.Random(seed)
     cells = [(x, y) for x in range(board[0]) for y in range(board[1])]
     return [cell for cell in cells if chance.random() < share]
+
+
+def some_land(board, seed, share=0.7):
+    """A map of the board with faces by chance, not all of them connected."""
+    chance = random.Random(seed)
+    faces = {}
+    for x, y in some_cells(board, seed, share):
+        # Neighbours often get the same name.
+        name = chance.choice(["abc"[x // 2 % 3], "abc"[y // 2 % 3], "d1", "e"])
+        faces.setdefault(name, []).append((x, y))
+    return LandMap(board, list(faces.items()))
+
+
+def shuffled(items, seed):
+    """The items in another order, some of them several times."""
+    chance = random.Random(seed)
+    given = list(items) + [item for item in items if chance.random() < 0.3]
+    chance.shuffle(given)
+    return given
+
+
+def some_corners(board, seed, share=0.5):
+    """Corners of the board by chance."""
+    chance = random.Random(seed)
+    width, height = board
+    corners = [(x, y) for x in range(width + 1) for y in range(height + 1)]
+    return [corner for corner in corners if chance.random() < share]
+
+
+def planes_of(board):
+    """Two planes by chance, which are hardly even, the ruler's and that of two rankings."""
+    ruler = ruler_ranking(sum(board))
+    return [
+        some_plane(board, 1), some_plane(board, 2), ranked_plane(board, ruler, ruler),
+        ranked_plane(board, *some_rankings(board, 3)),
+    ]

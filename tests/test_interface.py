@@ -70,6 +70,21 @@ FUNCTIONS = {
         "least_marks": "(plane, loop)", "is_least_marks": "(plane, loop, marks)",
         "least_chain": "(plane, loop)", "trace": "(plane, region)",
     },
+    "landmaps": {
+        "overlay": "(land, other)", "merge_faces": "(land, names, name)",
+        "put_in": "(land, name, region)",
+    },
+    "borders": {
+        "borders": "(land)", "border_chains": "(plane, land)",
+        "paint_face": "(plane, chains, name)",
+    },
+    "closures": {
+        "open_pair": "(plane, corners)", "closure": "(plane, corners)",
+        "derivation": "(plane, corners)", "is_derivation": "(plane, corners, entries)",
+        "find_triple": "(plane, corners, corner)",
+    },
+    "splits": {"split_four": "(plane, four)", "is_split": "(plane, four, certificate)"},
+    "sharing": {"find_shared": "(plane, sets)"},
 }
 
 CLASSES = {
@@ -96,6 +111,18 @@ CLASSES = {
             "__init__": "(self, cells)", "__iter__": "(self)", "__len__": "(self)",
             "__contains__": "(self, cell)", "__or__": "(self, other)",
             "__and__": "(self, other)", "__sub__": "(self, other)", "__xor__": "(self, other)",
+        },
+    },
+    "landmaps": {
+        "LandMap": {
+            "__init__": "(self, board, faces)", "names": "(self)", "region": "(self, name)",
+            "face_at": "(self, cell)",
+        },
+    },
+    "sharing": {
+        "Readings": {
+            "__init__": "(self, plane)", "put": "(self, corners)", "withdraw": "(self, number)",
+            "agreed": "(self)", "dispute": "(self)", "present": "(self)",
         },
     },
 }
