@@ -19,7 +19,7 @@ def parse_plane(text):
     parts = text.split("\n")
     # What stands behind the last newline is a line that is not ended, so it is none of the rows.
     rows, rest = parts[:-1], parts[-1]
-    board = _board_of_row(rows[0]) if len(rows) > 0 else None
+    board = board_of_row("plane", rows[0]) if len(rows) > 0 else None
     if board is None:
         raise BadText(1)
     if len(rows) < 2 or not fits_half(board, "rising", rows[1]):
@@ -31,10 +31,10 @@ def parse_plane(text):
     return Plane(board, rows[1], rows[2])
 
 
-def _board_of_row(row):
-    """The board that the first line of a text names, or None."""
+def board_of_row(word, row):
+    """The board of a line that has this word and the two sides of a board, or None."""
     words = row.split(" ")
-    if len(words) != 3 or words[0] != "plane":
+    if len(words) != 3 or words[0] != word:
         return None
     if words[1] not in SIDES or words[2] not in SIDES:
         return None

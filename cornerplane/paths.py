@@ -77,7 +77,7 @@ def format_path(path):
 def parse_path(board, text):
     """The path of the board that has this text."""
     start, _, letters = text.partition(" ")
-    corner = _corner_of_text(board, start)
+    corner = corner_of_text(board, start)
     if corner is None or not all(letter in STEPS for letter in letters):
         raise BadText(1)
     row = [corner]
@@ -93,7 +93,7 @@ def parse_path(board, text):
     return path
 
 
-def _corner_of_text(board, text):
+def corner_of_text(board, text):
     """The corner of the board that has this text, or None."""
     # Comparing texts instead of reading numbers refuses leading zeros and endless digits.
     for corner in corners_of(board):

@@ -318,3 +318,38 @@ def least_apart(sets):
         if not set(sets[i]) & set(sets[j]) & set(sets[k]):
             return (i, j, k)
     return None
+
+
+def touching_groups(items, near):
+    """The groups of items that rows of near ones connect, as sorted lists in ascending order."""
+    left, groups = set(items), []
+    while left:
+        group = {min(left)}
+        while True:
+            more = {one for one in left for other in group if near(one, other)} | group
+            if more == group:
+                break
+            group = more
+        left -= group
+        groups.append(sorted(group))
+    return sorted(groups)
+
+
+def sees(plane, room, z, w):
+    """True if every corner of the line of z and w is in the room."""
+    return set(plane.line(z, w)) <= set(room)
+
+
+def holes_of(board, room):
+    """Point 75 word by word: the groups of missing corners without (-1, -1)."""
+    around = product(range(-1, board[0] + 2), range(-1, board[1] + 2))
+    missing = [corner for corner in around if corner not in room]
+    groups = touching_groups(
+        missing, lambda a, b: abs(a[0] - b[0]) <= 1 and abs(a[1] - b[1]) <= 1
+    )
+    return [group for group in groups if (-1, -1) not in group]
+
+
+def pieces_of(room):
+    """The groups of corners of the room that unit steps connect."""
+    return touching_groups(room, lambda a, b: abs(a[0] - b[0]) + abs(a[1] - b[1]) == 1)

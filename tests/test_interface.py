@@ -85,6 +85,21 @@ FUNCTIONS = {
     },
     "splits": {"split_four": "(plane, four)", "is_split": "(plane, four, certificate)"},
     "sharing": {"find_shared": "(plane, sets)"},
+    "rooms": {"holes": "(board, room)", "room_pieces": "(room)"},
+    "sight": {
+        "blocked_at": "(plane, room, z, w)", "seen": "(plane, room, z)",
+        "sight_tree": "(plane, room, z)",
+    },
+    "lamps": {
+        "common_view": "(plane, room, places)", "find_lamp": "(plane, room, places)",
+        "kernel": "(plane, room)",
+    },
+    "routes": {
+        "sight_layers": "(plane, room, start)", "is_layers": "(plane, room, start, layers)",
+        "route": "(plane, room, a, b)",
+    },
+    "deeds": {"parse_deed": "(board, line)", "format_deed": "(deed)"},
+    "desk": {"load_desk": "(text)"},
 }
 
 CLASSES = {
@@ -123,6 +138,22 @@ CLASSES = {
         "Readings": {
             "__init__": "(self, plane)", "put": "(self, corners)", "withdraw": "(self, number)",
             "agreed": "(self)", "dispute": "(self)", "present": "(self)",
+        },
+    },
+    "sight": {
+        "Watch": {
+            "__init__": "(self, plane, room, post)", "block": "(self, corner)",
+            "unblock": "(self, corner)", "view": "(self)", "room": "(self)",
+        },
+    },
+    "desk": {
+        "Desk": {
+            "__init__": "(self, board, *, rising=None, falling=None)", "do": "(self, line)",
+            "do_all": "(self, lines)", "undo": "(self)", "redo": "(self)", "done": "(self)",
+            "undone": "(self)", "strokes": "(self)", "kept": "(self)", "shapes": "(self)",
+            "pinned": "(self)", "places": "(self)", "walls": "(self)", "room": "(self)",
+            "picture": "(self, name)", "visible": "(self, corner)", "lamp": "(self)",
+            "text": "(self)",
         },
     },
 }

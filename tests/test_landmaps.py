@@ -109,6 +109,18 @@ class LandMapTest(unittest.TestCase):
             [("a", [(2, 0)]), ("b", [(1, 1)]), ("c", [(2, 0), (1, 1)])], Overlap((1, 1))
         )
 
+    def test_the_least_of_many_common_cells(self):
+        for board in BOARDS[1:4]:
+            for seed in range(30):
+                one = some_cells(board, seed, 0.4)
+                other = some_cells(board, seed + 40, 0.7)
+                random.Random(seed).shuffle(other)
+                common = sorted(set(one) & set(other))
+                if common:
+                    with self.assertRaises(Overlap) as caught:
+                        LandMap(board, [("a", one), ("b", other)])
+                    self.assertEqual(caught.exception.cell, common[0])
+
     def test_the_items_are_looked_at_in_order(self):
         self.refused(
             [("a", [(0, 0)]), ("b", [(0, 0)]), ("a", [])], Overlap((0, 0))
